@@ -21,8 +21,8 @@ func word[T any](text string, meaning T) reader[T] {
 	}
 }
 
-// oneOf reads what the first of the choices reads that can. The choices of this package begin
-// differently or are short, so that going through them never costs more than a few bytes twice.
+// oneOf reads what the first of the choices reads that can. The choices given to it differ in
+// their first bytes or are short, so that no long part of a text is gone through again and again.
 func oneOf[T any](choices ...reader[T]) reader[T] {
 	return func(s string) (T, string, bool) {
 		for _, choice := range choices {
