@@ -132,8 +132,8 @@ func isPoint(bytes string) bool {
 	return ok
 }
 
-func thumbOf(members ...json.Member) string {
-	return code.Encode(hash.Sum256(objectForm(members...)))
+func thumbOf(given ...json.Member) string {
+	return code.Encode(hash.Sum256(objectForm(given...)))
 }
 
 func textMember(name, value string) json.Member {
@@ -141,6 +141,6 @@ func textMember(name, value string) json.Member {
 }
 
 // objectForm is the one form of an object whose members are given in their order.
-func objectForm(members ...json.Member) string {
-	return json.Value{Kind: json.Object, Members: members}.Form()
+func objectForm(given ...json.Member) string {
+	return json.Value{Kind: json.Object, Members: given}.Form()
 }
